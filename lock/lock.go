@@ -27,3 +27,11 @@ func (l Lock) Covers(r Lock) bool {
 	}
 	return l.Write || !r.Write
 }
+
+// Meets tells if l and m have a key of one partition in common, and one of the two is to write.
+func (l Lock) Meets(m Lock) bool {
+	if l.At != m.At || l.Hi < m.Lo || m.Hi < l.Lo {
+		return false
+	}
+	return l.Write || m.Write
+}

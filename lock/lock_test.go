@@ -45,3 +45,25 @@ func TestCovers(t *testing.T) {
 		}
 	}
 }
+
+func TestMeets(t *testing.T) {
+	other := api.Label{Comp: 1}
+	for _, c := range []struct {
+		l, m Lock
+		want bool
+	}{
+		{Lock{Lo: 3, Hi: 5}, Lock{Lo: 3, Hi: 5}, false},
+		{Lock{Lo: 3, Hi: 5}, Lock{Lo: 4, Hi: 4, Write: true}, true},
+		{Lock{Lo: 3, Hi: 5}, Lock{Lo: 3, Hi: 3, Write: true}, true},
+		{Lock{Lo: 3, Hi: 5}, Lock{Lo: 5, Hi: 5, Write: true}, true},
+		{Lock{Lo: 3, Hi: 5}, Lock{Lo: 2, Hi: 2, Write: true}, false},
+		{Lock{Lo: 3, Hi: 5}, Lock{Lo: 6, Hi: 6, Write: true}, false},
+		{Lock{Lo: 3, Hi: 3, Write: true}, Lock{Lo: 3, Hi: 3, Write: true}, true},
+		{Lock{At: other, Lo: 3, Hi: 3, Write: true}, Lock{Lo: 3, Hi: 3, Write: true}, false},
+		{Lock{At: other, Lo: 3, Hi: 3, Write: true}, Lock{At: other, Lo: 0, Hi: 15}, true},
+	} {
+		if c.l.Meets(c.m) != c.want || c.m.Meets(c.l) != c.want {
+			t.Errorf("%+v meets %+v: %v, and the other way round %v", c.l, c.m, c.l.Meets(c.m), c.m.Meets(c.l))
+		}
+	}
+}

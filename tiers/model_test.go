@@ -2,23 +2,31 @@ package tiers
 
 import (
 	"math/rand"
+	"slices"
 	"sort"
 	"testing"
 
 	"tiers/api"
 )
 
-// model is a second, slow reading of P5, P7, P8 and P10, for steps that meet no lock of another transaction.
+// model is a second, slow reading of P5 to P10, P12 and P13, for steps that meet no lock and no request of another label.
 type model struct {
 	c     api.Config
 	items map[api.Label]map[int]int
 	txns  map[api.Who]*modelTxn
+	// forced has why a transaction was ended by force, till its session is told.
+	forced map[api.Who]int
+	// now counts what happens, for the order of it.
+	now int
 }
 
 type modelTxn struct {
+	begun int
 	locks []modelLock
 	// log has the writes in the order in which they were done.
-	log []api.Step
+	log   []api.Step
+	asked *modelRequest
+	came  *api.Answer
 }
 
 type modelLock struct {
@@ -27,8 +35,18 @@ type modelLock struct {
 	write bool
 }
 
+type modelRequest struct {
+	x    api.Step
+	when int
+}
+
 func newModel(c api.Config) *model {
-	return &model{c, map[api.Label]map[int]int{}, map[api.Who]*modelTxn{}}
+	return &model{c: c, items: map[api.Label]map[int]int{}, txns: map[api.Who]*modelTxn{}, forced: map[api.Who]int{}}
+}
+
+func (m *model) tick() int {
+	m.now++
+	return m.now
 }
 
 func wanted(x api.Step) modelLock {
@@ -39,15 +57,27 @@ func wanted(x api.Step) modelLock {
 	return l
 }
 
-// inTheWay tells if the step would meet a lock of another transaction: such steps are not played.
-func (m *model) inTheWay(x api.Step) bool {
-	r := wanted(x)
+func meet(a, b modelLock) bool {
+	common := false
+	for k := range a.keys {
+		common = common || b.keys[k]
+	}
+	return common && a.at == b.at && (a.write || b.write)
+}
+
+// betweenLabels tells if the step would meet a lock or a request of another label: such steps are not played.
+func (m *model) betweenLabels(x api.Step) bool {
+	if x.Op < api.Get || x.Op > api.Del {
+		return false
+	}
 	for w, other := range m.txns {
-		for _, l := range other.locks {
-			for k := range l.keys {
-				if w != x.Who && l.at == r.at && r.keys[k] && (l.write || r.write) {
-					return true
-				}
+		locks := other.locks
+		if other.asked != nil {
+			locks = append(slices.Clone(locks), wanted(other.asked.x))
+		}
+		for _, l := range locks {
+			if w.Label != x.Who.Label && meet(l, wanted(x)) {
+				return true
 			}
 		}
 	}
@@ -68,7 +98,7 @@ func (m *model) covered(x api.Step) bool {
 	return false
 }
 
-// of counts the live transactions of a label and their locks, and tells the keys that are taken.
+// of counts the live transactions of a label and their locks and requests, and tells the keys that are taken.
 func (m *model) of(l api.Label) (int, int, map[int]bool) {
 	live, locks, taken := 0, 0, map[int]bool{}
 	for k := range m.items[l] {
@@ -80,6 +110,9 @@ func (m *model) of(l api.Label) (int, int, map[int]bool) {
 		}
 		live++
 		locks += len(x.locks)
+		if x.asked != nil {
+			locks++
+		}
 		for _, y := range x.log {
 			if y.Op == api.Put {
 				taken[y.Key] = true
@@ -117,39 +150,152 @@ func inOrder(view map[int]int, lo, hi int) []api.Item {
 	return l
 }
 
+// waitsFor has those that hinder the request of w.
+func (m *model) waitsFor(w api.Who) []api.Who {
+	var l []api.Who
+	mine := m.txns[w].asked
+	if mine == nil {
+		return nil
+	}
+	for other, o := range m.txns {
+		if other == w || other.Label != w.Label {
+			continue
+		}
+		hinders := o.asked != nil && o.asked.when < mine.when && meet(wanted(o.asked.x), wanted(mine.x))
+		for _, held := range o.locks {
+			hinders = hinders || meet(held, wanted(mine.x))
+		}
+		if hinders {
+			l = append(l, other)
+		}
+	}
+	return l
+}
+
+// ringed has all that stand in a ring with the first of the path, where the path is a part of the ring.
+func (m *model) ringed(path []api.Who) map[api.Who]bool {
+	in := map[api.Who]bool{}
+	for _, next := range m.waitsFor(path[len(path)-1]) {
+		if next == path[0] {
+			for _, w := range path {
+				in[w] = true
+			}
+		}
+		if slices.Contains(path, next) {
+			continue
+		}
+		for w := range m.ringed(append(slices.Clone(path), next)) {
+			in[w] = true
+		}
+	}
+	return in
+}
+
+func (m *model) breakRings(w api.Who) {
+	for m.txns[w] != nil {
+		in := m.ringed([]api.Who{w})
+		if len(in) == 0 {
+			return
+		}
+		youngest := w
+		for other := range in {
+			if m.txns[other].begun > m.txns[youngest].begun {
+				youngest = other
+			}
+		}
+		m.end(youngest)
+		m.forced[youngest] = api.Deadlock
+	}
+}
+
+// end ends a transaction; then, again and again, the earliest request that is not hindered is granted.
+func (m *model) end(w api.Who) {
+	delete(m.txns, w)
+	for {
+		var first *modelRequest
+		for other, o := range m.txns {
+			if o.asked == nil || len(m.waitsFor(other)) > 0 {
+				continue
+			}
+			if first == nil || o.asked.when < first.when {
+				first = o.asked
+			}
+		}
+		if first == nil {
+			return
+		}
+		him := m.txns[first.x.Who]
+		him.asked = nil
+		him.locks = append(him.locks, wanted(first.x))
+		a := m.granted(first.x)
+		him.came = &a
+	}
+}
+
 func (m *model) do(x api.Step) api.Answer {
 	code := func(c int) api.Answer { return api.Answer{Code: c} }
 	me := m.txns[x.Who]
-	live, locks, _ := m.of(x.Who.Label)
+	why := m.forced[x.Who]
+	live, _, _ := m.of(x.Who.Label)
 	switch {
 	case x.Op == api.Scan && x.To < x.Key:
 		return code(api.Bad)
+	case why != 0:
+		delete(m.forced, x.Who)
+		return api.Answer{Code: api.Aborted, Why: why}
+	case x.Op == api.Poll && me != nil && me.asked != nil:
+		return code(api.Blocked)
+	case x.Op == api.Poll && me != nil && me.came != nil:
+		a := *me.came
+		me.came = nil
+		return a
 	case x.Op == api.Poll:
 		return code(api.Idle)
+	case x.Op == api.Abort && me != nil:
+		m.end(x.Who)
+		return code(api.Done)
+	case me != nil && (me.asked != nil || me.came != nil):
+		return code(api.Busy)
 	case x.Op == api.Begin && me != nil:
 		return code(api.Live)
 	case x.Op == api.Begin && live >= m.c.Live:
 		return code(api.Quota)
 	case x.Op == api.Begin:
-		m.txns[x.Who] = &modelTxn{}
+		m.txns[x.Who] = &modelTxn{begun: m.tick()}
 		return code(api.Done)
 	case me == nil:
 		return code(api.NoTxn)
 	case x.Op == api.Commit:
 		m.items[x.Who.Label] = m.seen(x.Who, x.Who.Label)
-		delete(m.txns, x.Who)
+		m.end(x.Who)
 		return code(api.Done)
-	case x.Op == api.Abort:
-		delete(m.txns, x.Who)
-		return code(api.Done)
-	case wanted(x).write && x.At != x.Who.Label, x.At.Level > x.Who.Label.Level, x.At.Comp&^x.Who.Label.Comp != 0:
-		return code(api.Denied)
-	case !m.covered(x) && locks >= m.c.Locks:
-		return code(api.Quota)
-	case !m.covered(x):
-		me.locks = append(me.locks, wanted(x))
 	}
-	return m.granted(x)
+	return m.ask(x)
+}
+
+func (m *model) ask(x api.Step) api.Answer {
+	own, me := x.Who.Label, m.txns[x.Who]
+	_, locks, _ := m.of(own)
+	switch {
+	case wanted(x).write && x.At != own, x.At.Level > own.Level, x.At.Comp&^own.Comp != 0:
+		return api.Answer{Code: api.Denied}
+	case m.covered(x):
+		return m.granted(x)
+	case locks >= m.c.Locks:
+		return api.Answer{Code: api.Quota}
+	}
+	me.asked = &modelRequest{x, m.tick()}
+	if len(m.waitsFor(x.Who)) == 0 {
+		me.asked = nil
+		me.locks = append(me.locks, wanted(x))
+		return m.granted(x)
+	}
+	m.breakRings(x.Who)
+	if why := m.forced[x.Who]; why != 0 {
+		delete(m.forced, x.Who)
+		return api.Answer{Code: api.Aborted, Why: why}
+	}
+	return api.Answer{Code: api.Blocked}
 }
 
 func (m *model) granted(x api.Step) api.Answer {
@@ -168,17 +314,18 @@ func (m *model) granted(x api.Step) api.Answer {
 	return api.Answer{}
 }
 
-// fair is a step without faults, of a few labels; requests come more often than ends.
-func fair(r *rand.Rand) api.Step {
-	labels := []api.Label{{}, {Level: 1}, {Comp: 1}, {Level: 1, Comp: 3}, {Level: 3, Comp: 7}}
-	ops := []int{api.Begin, api.Get, api.Get, api.Scan, api.Put, api.Put, api.Put, api.Put, api.Del, api.Del, api.Commit, api.Abort, api.Poll}
+var moves = []int{api.Begin, api.Get, api.Get, api.Scan, api.Put, api.Put, api.Put, api.Put, api.Del, api.Del, api.Commit, api.Abort, api.Poll}
+
+// fair is a step without faults, of a few labels and keys; requests come more often than ends.
+func fair(r *rand.Rand, labels []api.Label, keys int) api.Step {
+	ops := moves
 	if r.Intn(3) > 0 {
 		ops = ops[:10]
 	}
 	x := api.Step{
 		Who: api.Who{Label: labels[r.Intn(len(labels))], Num: r.Intn(4)},
 		Op:  ops[r.Intn(len(ops))], At: labels[r.Intn(len(labels))],
-		Key: r.Intn(16), To: r.Intn(16), Value: r.Intn(1000),
+		Key: r.Intn(keys), To: r.Intn(keys), Value: r.Intn(1000),
 	}
 	if r.Intn(3) > 0 {
 		x.At = x.Who.Label
@@ -186,31 +333,59 @@ func fair(r *rand.Rand) api.Step {
 	return x
 }
 
-func TestNobodyInTheWay(t *testing.T) {
-	r := rand.New(rand.NewSource(3))
-	codes := map[int]int{}
-	for range 60 {
-		c := api.Config{Keys: 1 + r.Intn(16), Live: 1 + r.Intn(4), Locks: 1 + r.Intn(32)}
-		s, m := made(t, c), newModel(c)
-		for range 1500 {
-			x := fair(r)
-			if x.Op >= api.Get && x.Op <= api.Del && m.inTheWay(x) {
-				continue
-			}
-			got, want := s.Do(x), m.do(x)
-			if shown(got) != shown(want) {
-				t.Fatalf("%+v with %+v: %s, want %s", x, c, shown(got), shown(want))
-			}
-			codes[got.Code]++
-			l := x.Who.Label
-			if got, want := looked(s, l), "OK"+listed(inOrder(m.items[l], 0, 15)); got != want {
-				t.Fatalf("Look(%v) after %+v: %s, want %s", l, x, got, want)
-			}
+// helpOn makes x a step that goes on where most others do nothing.
+func (m *model) helpOn(x *api.Step) {
+	me := m.txns[x.Who]
+	switch {
+	case m.forced[x.Who] != 0, me != nil && me.came != nil:
+		x.Op = api.Poll
+	case me == nil:
+		x.Op = api.Begin
+	}
+}
+
+// play does steps in a store and in the model, and counts the answers by their names, those of Poll apart.
+func play(t *testing.T, r *rand.Rand, c api.Config, labels []api.Label, keys int, counts map[string]int) {
+	t.Helper()
+	s, m := made(t, c), newModel(c)
+	for range 1500 {
+		x := fair(r, labels, keys)
+		if r.Intn(2) == 0 {
+			m.helpOn(&x)
+		}
+		if m.betweenLabels(x) {
+			continue
+		}
+		got, want := s.Do(x), m.do(x)
+		if shown(got) != shown(want) {
+			t.Fatalf("%+v with %+v: %s, want %s", x, c, shown(got), shown(want))
+		}
+		name := codeNames[got.Code]
+		if x.Op == api.Poll {
+			name = "Poll " + name
+		}
+		counts[name]++
+		l := x.Who.Label
+		if got, want := looked(s, l), "OK"+listed(inOrder(m.items[l], 0, 15)); got != want {
+			t.Fatalf("Look(%v) after %+v: %s, want %s", l, x, got, want)
 		}
 	}
-	for _, code := range []int{api.Done, api.Denied, api.Quota, api.NoTxn, api.Live, api.Idle, api.Bad} {
-		if codes[code] < 100 {
-			t.Errorf("only %d answers were %s: %v", codes[code], codeNames[code], codes)
+}
+
+func TestAgainstTheModel(t *testing.T) {
+	r := rand.New(rand.NewSource(3))
+	labels := []api.Label{{}, {Level: 1}, {Comp: 1}, {Level: 1, Comp: 3}, {Level: 3, Comp: 7}}
+	counts := map[string]int{}
+	for range 60 {
+		c := api.Config{Keys: 1 + r.Intn(16), Live: 1 + r.Intn(4), Locks: 1 + r.Intn(32)}
+		play(t, r, c, labels, 16, counts)
+		c = api.Config{Keys: 1 + r.Intn(5), Live: 2 + r.Intn(3), Locks: 4 + r.Intn(29)}
+		play(t, r, c, labels[:1], 5, counts)
+		play(t, r, c, labels[:2], 8, counts)
+	}
+	for _, name := range []string{"Done", "Blocked", "Aborted", "Denied", "Quota", "NoTxn", "Live", "Busy", "Bad", "Poll Done", "Poll Blocked", "Poll Aborted", "Poll Quota", "Poll Idle"} {
+		if counts[name] < 100 {
+			t.Errorf("only %d answers were %s: %v", counts[name], name, counts)
 		}
 	}
 }

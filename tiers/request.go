@@ -7,7 +7,6 @@ import (
 )
 
 // ask makes the request of a Get, Scan, Put or Del in a live transaction (P8).
-// As P9 and P11 to P13 are still to come, no request is held to be hindered here.
 func (s *Store) ask(x api.Step) api.Answer {
 	if !allowed(x) {
 		return api.Answer{Code: api.Denied}
@@ -21,8 +20,11 @@ func (s *Store) ask(x api.Step) api.Answer {
 	if own.locks() >= s.config.Locks {
 		return api.Answer{Code: api.Quota}
 	}
-	me.locks = append(me.locks, r)
-	return s.grant(x)
+	own.join(x)
+	if own.isHindered(x.Who.Num) {
+		return s.breakRings(x.Who)
+	}
+	return s.admit(x.Who)
 }
 
 // grant does the operation of a request that is granted (P10).

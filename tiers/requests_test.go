@@ -118,17 +118,42 @@ func TestP8ALockIsOnOnePartition(t *testing.T) {
 }
 
 func TestP8ARequestThatWaitsCounts(t *testing.T) {
-	s := made(t, api.Config{Keys: 16, Live: 4, Locks: 2})
-	run(t, s, "A Begin: Done\nB Begin: Done\nA Get 0/0 1: Done")
-	s.tiers[0].sessions[1].phase = waits
-	run(t, s, `
-		A Get 0/0 2: Quota
-		A Get 0/0 1: Done
-		H Begin: Done
-		H Get 0/0 2: Done
-		B Abort: Done
+	run(t, made(t, api.Config{Keys: 16, Live: 4, Locks: 3}), `
+		A Begin: Done
+		B Begin: Done
+		C Begin: Done
+		A Put 0/0 1 1: Done
+		B Get 0/0 1: Blocked
 		A Get 0/0 2: Done
-		A Get 0/0 3: Quota`)
+		A Get 0/0 3: Quota
+		C Get 0/0 1: Quota
+		C Put 0/0 9 9: Quota
+		A Get 0/0 1: Done 1:1
+		H Begin: Done
+		H Get 1/0 2: Done
+		B Abort: Done
+		C Get 0/0 1: Blocked
+		B Begin: Done
+		B Get 0/0 1: Quota
+		A Commit: Done
+		B Get 0/0 1: Done 1:1
+		B Get 0/0 2: Done
+		B Get 0/0 3: Quota
+		C Poll: Done 1:1
+		C Get 0/0 3: Quota`)
+}
+
+func TestP8TheQuotaComesBeforeAnyWaiting(t *testing.T) {
+	run(t, made(t, api.Config{Keys: 16, Live: 4, Locks: 2}), `
+		A Begin: Done
+		B Begin: Done
+		A Get 0/0 3: Done
+		B Get 0/0 3: Done
+		A Put 0/0 3 1: Quota
+		B Put 0/0 3 2: Quota
+		A Poll: Idle
+		B Commit: Done
+		A Put 0/0 3 1: Done`)
 }
 
 func TestP10GetAndScan(t *testing.T) {
@@ -244,6 +269,19 @@ func TestP10QuotaOfKeys(t *testing.T) {
 		A Scan 0/0 0 15: Done 1:2 2:3 5:5
 		A Commit: Done
 		Look 0/0: OK 1:2 2:3 5:5`)
+}
+
+func TestP10TheFirstAndTheLastKeyAreTaken(t *testing.T) {
+	run(t, made(t, api.Config{Keys: 2, Live: 4, Locks: 32}), `
+		A Begin: Done
+		A Put 0/0 15 1: Done
+		A Put 0/0 0 1: Done
+		A Put 0/0 7 7: Quota
+		A Commit: Done
+		B Begin: Done
+		B Put 0/0 7 7: Quota
+		B Put 0/0 15 2: Done
+		B Put 0/0 0 2: Done`)
 }
 
 func TestP10APutPastTheQuotaHoldsItsLock(t *testing.T) {

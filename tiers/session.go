@@ -6,20 +6,14 @@ import (
 	"tiers/lock"
 )
 
-// The phases of a transaction's request.
-const (
-	free  = 0 // none waits, and there is nothing to tell of one
-	waits = 1
-	came  = 2 // one has waited, and what came of it has not been told
-)
-
-// session is a session with its transaction. The zero session has none.
+// session is what a session's transaction has, and what the session is still to be told. The zero session has nothing.
 type session struct {
-	live   bool
 	locks  []lock.Lock
 	writes item.Writes
-	phase  int
-	// outcome is what came of a request that has waited, while the phase is came.
+	// request is the step whose request waits, while the session stands in the queue of its tier.
+	request api.Step
+	// came tells that a request has waited, and that what came of it, the outcome, has not been told.
+	came    bool
 	outcome api.Answer
 	// ended is why the last transaction was ended by force, till the session is told; else 0.
 	ended int
@@ -32,33 +26,13 @@ func (s *session) tellEnd() api.Answer {
 	return api.Answer{Code: api.Aborted, Why: why}
 }
 
-// poll tells how the request stands that has waited (P7).
-func (s *session) poll() api.Answer {
-	switch s.phase {
-	case waits:
-		return api.Answer{Code: api.Blocked}
-	case came:
-		a := s.outcome
-		// The list in it is the caller's from now on.
-		s.outcome = api.Answer{}
-		s.phase = free
-		return a
-	}
-	return api.Answer{Code: api.Idle}
-}
-
-// abort ends the transaction without its writes (P7).
-func (s *session) abort() api.Answer {
-	if !s.live {
-		return api.Answer{Code: api.NoTxn}
-	}
-	s.end()
-	return api.Answer{Code: api.Done}
-}
-
-// end leaves nothing of the transaction: its locks, its request and what came of one go with it.
-func (s *session) end() {
-	*s = session{}
+// tellOutcome tells what came of a request that has waited (P7).
+func (s *session) tellOutcome() api.Answer {
+	a := s.outcome
+	// The list in it is the caller's from now on.
+	s.outcome = api.Answer{}
+	s.came = false
+	return a
 }
 
 // covers tells if a lock that the transaction holds covers the request r.
@@ -71,49 +45,12 @@ func (s *session) covers(r lock.Lock) bool {
 	return false
 }
 
-// live counts the live transactions of the label.
-func (t *tier) live() int {
-	n := 0
-	for i := range t.sessions {
-		if t.sessions[i].live {
-			n++
-		}
-	}
-	return n
-}
-
-// locks counts the label's locks and requests that wait.
-func (t *tier) locks() int {
-	n := 0
-	for i := range t.sessions {
-		n += len(t.sessions[i].locks)
-		if t.sessions[i].phase == waits {
-			n++
-		}
-	}
-	return n
-}
-
-// isTaken tells if key is taken: by an item, or by a Put of a live transaction.
-func (t *tier) isTaken(key int) bool {
-	if t.items.Has(key) {
-		return true
-	}
-	for i := range t.sessions {
-		if t.sessions[i].writes.HasPut(key) {
+// meets tells if a lock that the transaction holds meets the request r.
+func (s *session) meets(r lock.Lock) bool {
+	for _, l := range s.locks {
+		if l.Meets(r) {
 			return true
 		}
 	}
 	return false
-}
-
-// taken counts the keys that are taken.
-func (t *tier) taken() int {
-	n := 0
-	for key := 0; key <= api.MaxKey; key++ {
-		if t.isTaken(key) {
-			n++
-		}
-	}
-	return n
 }

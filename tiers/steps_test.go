@@ -138,44 +138,74 @@ func TestP5BadComesBeforeAllElse(t *testing.T) {
 		A Get 0/0 1: Done
 		A Get 0/0 16: Bad
 		A Del 4/0 1: Bad`)
-	s.tiers[0].sessions[1].ended = api.Preempted
-	s.tiers[0].sessions[0].phase = waits
-	run(t, s, `
+	run(t, made(t, wide), `
+		B Begin: Done
+		A Begin: Done
+		A Get 0/0 3: Done
+		B Get 0/0 3: Done
+		A Put 0/0 3 1: Blocked
+		A Get 0/0 16: Bad
+		A Poll: Blocked
+		B Put 0/0 3 2: Blocked
 		A Get 0/0 16: Bad
 		B Get 0/0 16: Bad
-		B Poll: Aborted why1
-		A Get 0/0 15: Busy`)
+		A Poll: Aborted why2
+		B Get 0/0 15: Busy
+		B Poll: Done`)
 }
 
-// Nothing is ended by force yet (P11, P12): the tests of P6 set that themselves.
+// ringed is a store for two live transactions where that of B is live, and that of A was ended in a ring, of which A has not been told.
+func ringed(t *testing.T) *Store {
+	s := made(t, api.Config{Keys: 16, Live: 2, Locks: 32})
+	run(t, s, `
+		B Begin: Done
+		A Begin: Done
+		A Put 0/0 9 9: Done
+		A Get 0/0 3: Done
+		B Get 0/0 3: Done
+		A Put 0/0 3 1: Blocked
+		B Put 0/0 3 2: Blocked`)
+	return s
+}
+
 func TestP6AnEndByForceIsTold(t *testing.T) {
 	steps := []string{"A Begin", "A Get 0/0 3", "A Scan 0/0 3 9", "A Put 0/0 3 7", "A Put 1/0 3 7", "A Del 0/0 3", "A Commit", "A Abort", "A Poll"}
 	for _, step := range steps {
-		for _, why := range []string{"why1", "why2"} {
-			s := made(t, api.Config{Keys: 1, Live: 1, Locks: 1})
-			s.tiers[0].sessions[0].ended = int(why[3] - '0')
-			run(t, s, step+": Aborted "+why+"\n"+`
-				B Begin: Done
-				A Poll: Idle
-				B Commit: Done
-				A Commit: NoTxn
-				Look 0/0: OK
-				A Begin: Done
-				A Commit: Done`)
-		}
+		run(t, ringed(t), step+": Aborted why2\n"+`
+			C Begin: Done
+			A Poll: Idle
+			A Begin: Quota
+			C Commit: Done
+			A Commit: NoTxn
+			A Abort: NoTxn
+			B Poll: Done
+			Look 0/0: OK
+			A Begin: Done
+			A Get 0/0 9: Done
+			A Commit: Done
+			B Commit: Done
+			Look 0/0: OK 3:2`)
 	}
 }
 
-func TestP6EachSessionIsToldOfItsOwn(t *testing.T) {
+// No transaction is preempted yet (P11): this test sets that itself.
+func TestP6WhyIsTold(t *testing.T) {
 	s := made(t, wide)
-	s.tiers[0].sessions[1].ended = api.Deadlock
-	run(t, s, `
-		A Begin: Done
+	s.tiers[0].sessions[1].ended = api.Preempted
+	run(t, s, "B Commit: Aborted why1\nB Commit: NoTxn")
+}
+
+func TestP6EachSessionIsToldOfItsOwn(t *testing.T) {
+	run(t, ringed(t), `
+		D Poll: Idle
+		C Begin: Done
 		H Begin: Done
-		A Poll: Idle
-		B Begin: Aborted why2
-		B Begin: Done
-		B Begin: Live`)
+		B Begin: Busy
+		A Begin: Aborted why2
+		A Begin: Quota
+		C Abort: Done
+		A Begin: Done
+		A Begin: Live`)
 }
 
 func TestP7WithoutATransaction(t *testing.T) {
@@ -250,60 +280,78 @@ func TestP7QuotaOfLive(t *testing.T) {
 		D Begin: Live`)
 }
 
-// No request waits yet (P9): the tests of P7 and P8 set that themselves.
 func TestP7WhileARequestWaits(t *testing.T) {
-	s := made(t, wide)
-	run(t, s, "A Begin: Done\nA Put 0/0 3 7: Done")
-	s.tiers[0].sessions[0].phase = waits
-	run(t, s, `
-		A Poll: Blocked
-		A Poll: Blocked
-		A Begin: Busy
-		A Get 0/0 3: Busy
-		A Get 1/0 3: Busy
-		A Scan 0/0 3 3: Busy
-		A Put 1/0 3 8: Busy
-		A Del 0/0 3: Busy
-		A Commit: Busy
-		Look 0/0: OK
+	run(t, made(t, wide), `
+		A Begin: Done
+		A Put 0/0 3 7: Done
 		B Begin: Done
-		B Commit: Done
-		A Abort: Done
-		A Poll: Idle
-		A Commit: NoTxn
-		Look 0/0: OK`)
+		B Put 0/0 5 5: Done
+		B Get 0/0 3: Blocked
+		B Poll: Blocked
+		B Poll: Blocked
+		B Begin: Busy
+		B Get 0/0 3: Busy
+		B Get 0/0 5: Busy
+		B Get 1/0 3: Busy
+		B Scan 0/0 3 3: Busy
+		B Put 1/0 3 8: Busy
+		B Del 0/0 5: Busy
+		B Commit: Busy
+		Look 0/0: OK
+		C Begin: Done
+		C Poll: Idle
+		C Commit: Done
+		B Poll: Blocked
+		B Abort: Done
+		B Poll: Idle
+		B Commit: NoTxn
+		A Commit: Done
+		B Poll: Idle
+		B Begin: Done
+		B Poll: Idle
+		Look 0/0: OK 3:7`)
 }
 
 func TestP7WhatCameOfARequest(t *testing.T) {
 	s := made(t, wide)
-	run(t, s, "A Begin: Done\nA Put 0/0 3 7: Done")
-	me := &s.tiers[0].sessions[0]
-	me.phase = came
-	me.outcome = api.Answer{Items: []api.Item{{Key: 4, Value: 4}}}
 	run(t, s, `
-		A Begin: Busy
-		A Get 0/0 3: Busy
-		A Commit: Busy
-		B Poll: Idle
-		A Poll: Done 4:4
+		A Begin: Done
+		A Put 0/0 4 4: Done
+		B Begin: Done
+		B Put 0/0 3 7: Done
+		B Scan 0/0 0 5: Blocked
+		A Commit: Done
+		B Begin: Busy
+		B Get 0/0 3: Busy
+		B Put 0/0 5 5: Busy
+		B Put 1/0 3 7: Busy
+		B Commit: Busy
 		A Poll: Idle
-		A Get 0/0 3: Done 3:7`)
-	if me.outcome.Items != nil {
+		C Poll: Idle
+		B Poll: Done 3:7 4:4
+		B Poll: Idle
+		B Get 0/0 3: Done 3:7`)
+	if s.tiers[0].sessions[1].outcome.Items != nil {
 		t.Error("a list that was told is kept")
 	}
-	me.phase = came
-	me.outcome = api.Answer{Code: api.Quota}
 	run(t, s, `
-		A Put 1/0 3 7: Busy
-		A Poll: Quota
-		A Poll: Idle`)
-	me.phase = came
-	me.outcome = api.Answer{Code: api.Quota}
-	run(t, s, `
-		A Abort: Done
-		A Poll: Idle
+		B Commit: Done
+		Look 0/0: OK 3:7 4:4`)
+}
+
+func TestP7AbortBeforeTheOutcomeIsTold(t *testing.T) {
+	run(t, made(t, wide), `
 		A Begin: Done
-		A Poll: Idle
+		A Get 0/0 3: Done
+		B Begin: Done
+		B Put 0/0 3 7: Blocked
 		A Commit: Done
+		B Abort: Done
+		B Poll: Idle
+		B Commit: NoTxn
+		B Begin: Done
+		B Poll: Idle
+		B Get 0/0 3: Done
+		B Commit: Done
 		Look 0/0: OK`)
 }

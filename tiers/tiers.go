@@ -3,7 +3,6 @@ package tiers
 
 import (
 	"tiers/api"
-	"tiers/item"
 	"tiers/label"
 )
 
@@ -11,12 +10,6 @@ import (
 type Store struct {
 	config api.Config
 	tiers  [label.Count]tier
-}
-
-// tier is what there is of one label: its partition's items and its sessions.
-type tier struct {
-	items    item.Table
-	sessions [api.MaxNum + 1]session
 }
 
 // New makes a store (P3).
@@ -45,17 +38,17 @@ func (s *Store) Do(x api.Step) api.Answer {
 	}
 	switch x.Op {
 	case api.Poll:
-		return me.poll()
+		return own.poll(x.Who.Num)
 	case api.Abort:
-		return me.abort()
+		return s.abort(x.Who)
 	}
-	if me.phase != free {
+	if own.isBusy(x.Who.Num) {
 		return api.Answer{Code: api.Busy}
 	}
 	if x.Op == api.Begin {
 		return s.begin(x.Who)
 	}
-	if !me.live {
+	if !own.isLive(x.Who.Num) {
 		return api.Answer{Code: api.NoTxn}
 	}
 	if x.Op == api.Commit {
@@ -82,14 +75,23 @@ func (s *Store) tier(l api.Label) *tier {
 // begin makes the transaction of a session that has none.
 func (s *Store) begin(w api.Who) api.Answer {
 	own := s.tier(w.Label)
-	me := &own.sessions[w.Num]
-	if me.live {
+	if own.isLive(w.Num) {
 		return api.Answer{Code: api.Live}
 	}
-	if own.live() >= s.config.Live {
+	if len(own.begun) >= s.config.Live {
 		return api.Answer{Code: api.Quota}
 	}
-	me.live = true
+	own.begun = append(own.begun, w.Num)
+	return api.Answer{Code: api.Done}
+}
+
+// abort ends a session's transaction without its writes.
+func (s *Store) abort(w api.Who) api.Answer {
+	own := s.tier(w.Label)
+	if !own.isLive(w.Num) {
+		return api.Answer{Code: api.NoTxn}
+	}
+	s.finish(w)
 	return api.Answer{Code: api.Done}
 }
 
@@ -98,6 +100,6 @@ func (s *Store) commit(w api.Who) api.Answer {
 	own := s.tier(w.Label)
 	me := &own.sessions[w.Num]
 	own.items = me.writes.Over(own.items)
-	me.end()
+	s.finish(w)
 	return api.Answer{Code: api.Done}
 }
