@@ -14,7 +14,7 @@ func Valid(l api.Label) bool {
 	return l.Comp >= 0 && l.Comp <= api.MaxComp
 }
 
-// Place tells where l stands in a table of Count labels: each label has a place of its own. It is false if l is no label.
+// Place tells where l stands in a table of Count labels: each label has a place of its own, and a higher label a later one. It is false if l is no label.
 func Place(l api.Label) (int, bool) {
 	if !Valid(l) {
 		return 0, false

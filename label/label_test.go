@@ -64,3 +64,18 @@ func TestDominates(t *testing.T) {
 		}
 	}
 }
+
+func TestAHigherLabelHasALaterPlace(t *testing.T) {
+	for _, a := range all() {
+		for _, b := range all() {
+			if a == b || !Dominates(a, b) {
+				continue
+			}
+			high, _ := Place(a)
+			low, _ := Place(b)
+			if high <= low {
+				t.Errorf("%v is at %d, but %v, which is higher, at %d", b, low, a, high)
+			}
+		}
+	}
+}

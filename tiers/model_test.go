@@ -1,6 +1,7 @@
 package tiers
 
 import (
+	"math/bits"
 	"math/rand"
 	"slices"
 	"sort"
@@ -9,7 +10,7 @@ import (
 	"tiers/api"
 )
 
-// model is a second, slow reading of P5 to P10, P12 and P13, for steps that meet no lock and no request of another label.
+// model is a second, slow reading of P5 to P13.
 type model struct {
 	c     api.Config
 	items map[api.Label]map[int]int
@@ -18,6 +19,8 @@ type model struct {
 	forced map[api.Who]int
 	// now counts what happens, for the order of it.
 	now int
+	// notes counts what the answers alone do not show.
+	notes map[string]int
 }
 
 type modelTxn struct {
@@ -41,7 +44,7 @@ type modelRequest struct {
 }
 
 func newModel(c api.Config) *model {
-	return &model{c: c, items: map[api.Label]map[int]int{}, txns: map[api.Who]*modelTxn{}, forced: map[api.Who]int{}}
+	return &model{c: c, items: map[api.Label]map[int]int{}, txns: map[api.Who]*modelTxn{}, forced: map[api.Who]int{}, notes: map[string]int{}}
 }
 
 func (m *model) tick() int {
@@ -65,23 +68,8 @@ func meet(a, b modelLock) bool {
 	return common && a.at == b.at && (a.write || b.write)
 }
 
-// betweenLabels tells if the step would meet a lock or a request of another label: such steps are not played.
-func (m *model) betweenLabels(x api.Step) bool {
-	if x.Op < api.Get || x.Op > api.Del {
-		return false
-	}
-	for w, other := range m.txns {
-		locks := other.locks
-		if other.asked != nil {
-			locks = append(slices.Clone(locks), wanted(other.asked.x))
-		}
-		for _, l := range locks {
-			if w.Label != x.Who.Label && meet(l, wanted(x)) {
-				return true
-			}
-		}
-	}
-	return false
+func (t *modelTxn) holdsAgainst(r modelLock) bool {
+	return slices.ContainsFunc(t.locks, func(l modelLock) bool { return meet(l, r) })
 }
 
 func (m *model) covered(x api.Step) bool {
@@ -157,15 +145,13 @@ func (m *model) waitsFor(w api.Who) []api.Who {
 	if mine == nil {
 		return nil
 	}
+	r := wanted(mine.x)
 	for other, o := range m.txns {
-		if other == w || other.Label != w.Label {
+		if other == w || other.Label != r.at {
 			continue
 		}
-		hinders := o.asked != nil && o.asked.when < mine.when && meet(wanted(o.asked.x), wanted(mine.x))
-		for _, held := range o.locks {
-			hinders = hinders || meet(held, wanted(mine.x))
-		}
-		if hinders {
+		earlier := other.Label == w.Label && o.asked != nil && o.asked.when < mine.when
+		if o.holdsAgainst(r) || earlier && meet(wanted(o.asked.x), r) {
 			l = append(l, other)
 		}
 	}
@@ -208,27 +194,74 @@ func (m *model) breakRings(w api.Who) {
 	}
 }
 
-// end ends a transaction; then, again and again, the earliest request that is not hindered is granted.
 func (m *model) end(w api.Who) {
 	delete(m.txns, w)
+	m.settle()
+}
+
+// rank is lower for a lower label; of those of which neither is the lower one it does not matter which comes first.
+func rank(l api.Label) int {
+	return 8*(l.Level+bits.OnesCount(uint(l.Comp))) + 7 - l.Comp
+}
+
+// ahead tells if P13 looks at the request a before b.
+func ahead(a, b *modelRequest) bool {
+	if a.x.At != b.x.At {
+		return rank(a.x.At) < rank(b.x.At)
+	}
+	if own := a.x.Who.Label == a.x.At; own != (b.x.Who.Label == b.x.At) {
+		return own
+	}
+	return a.when < b.when
+}
+
+// settle grants, again and again, the first request that is not hindered.
+func (m *model) settle() {
 	for {
 		var first *modelRequest
 		for other, o := range m.txns {
 			if o.asked == nil || len(m.waitsFor(other)) > 0 {
 				continue
 			}
-			if first == nil || o.asked.when < first.when {
+			if first == nil || ahead(o.asked, first) {
 				first = o.asked
 			}
 		}
 		if first == nil {
 			return
 		}
-		him := m.txns[first.x.Who]
-		him.asked = nil
-		him.locks = append(him.locks, wanted(first.x))
-		a := m.granted(first.x)
-		him.came = &a
+		before := len(m.txns)
+		a := m.admit(first.x)
+		m.txns[first.x.Who].came = &a
+		if first.x.At != first.x.Who.Label {
+			m.notes["down later"]++
+		}
+		if len(m.txns) < before {
+			m.notes["preempted later"]++
+		}
+	}
+}
+
+func (m *model) admit(x api.Step) api.Answer {
+	me := m.txns[x.Who]
+	me.asked = nil
+	me.locks = append(me.locks, wanted(x))
+	m.preempt(x)
+	return m.granted(x)
+}
+
+func (m *model) preempt(x api.Step) {
+	r := wanted(x)
+	for w, o := range m.txns {
+		higher := w.Label != x.Who.Label && w.Label.Level >= x.Who.Label.Level && x.Who.Label.Comp&^w.Label.Comp == 0
+		if !r.write || !higher || !o.holdsAgainst(r) {
+			continue
+		}
+		delete(m.txns, w)
+		m.forced[w] = api.Preempted
+		if o.asked != nil {
+			m.notes["preempted while it waits"]++
+		}
 	}
 }
 
@@ -280,15 +313,19 @@ func (m *model) ask(x api.Step) api.Answer {
 	case wanted(x).write && x.At != own, x.At.Level > own.Level, x.At.Comp&^own.Comp != 0:
 		return api.Answer{Code: api.Denied}
 	case m.covered(x):
+		m.preempt(x)
 		return m.granted(x)
 	case locks >= m.c.Locks:
 		return api.Answer{Code: api.Quota}
 	}
 	me.asked = &modelRequest{x, m.tick()}
 	if len(m.waitsFor(x.Who)) == 0 {
-		me.asked = nil
-		me.locks = append(me.locks, wanted(x))
-		return m.granted(x)
+		a := m.admit(x)
+		m.settle()
+		return a
+	}
+	if x.At != own {
+		m.notes["down Blocked"]++
 	}
 	m.breakRings(x.Who)
 	if why := m.forced[x.Who]; why != 0 {
@@ -319,7 +356,7 @@ var moves = []int{api.Begin, api.Get, api.Get, api.Scan, api.Put, api.Put, api.P
 // fair is a step without faults, of a few labels and keys; requests come more often than ends.
 func fair(r *rand.Rand, labels []api.Label, keys int) api.Step {
 	ops := moves
-	if r.Intn(3) > 0 {
+	if r.Intn(2) > 0 {
 		ops = ops[:10]
 	}
 	x := api.Step{
@@ -327,14 +364,17 @@ func fair(r *rand.Rand, labels []api.Label, keys int) api.Step {
 		Op:  ops[r.Intn(len(ops))], At: labels[r.Intn(len(labels))],
 		Key: r.Intn(keys), To: r.Intn(keys), Value: r.Intn(1000),
 	}
-	if r.Intn(3) > 0 {
+	if r.Intn(2) > 0 {
 		x.At = x.Who.Label
 	}
 	return x
 }
 
 // helpOn makes x a step that goes on where most others do nothing.
-func (m *model) helpOn(x *api.Step) {
+func (m *model) helpOn(r *rand.Rand, x *api.Step) {
+	for tries := 0; tries < 4 && m.waits(x.Who); tries++ {
+		x.Who.Num = r.Intn(4)
+	}
 	me := m.txns[x.Who]
 	switch {
 	case m.forced[x.Who] != 0, me != nil && me.came != nil:
@@ -344,23 +384,26 @@ func (m *model) helpOn(x *api.Step) {
 	}
 }
 
+func (m *model) waits(w api.Who) bool {
+	me := m.txns[w]
+	return me != nil && me.asked != nil
+}
+
 // play does steps in a store and in the model, and counts the answers by their names, those of Poll apart.
 func play(t *testing.T, r *rand.Rand, c api.Config, labels []api.Label, keys int, counts map[string]int) {
 	t.Helper()
 	s, m := made(t, c), newModel(c)
+	m.notes = counts
 	for range 1500 {
 		x := fair(r, labels, keys)
-		if r.Intn(2) == 0 {
-			m.helpOn(&x)
-		}
-		if m.betweenLabels(x) {
-			continue
+		if r.Intn(4) > 0 {
+			m.helpOn(r, &x)
 		}
 		got, want := s.Do(x), m.do(x)
 		if shown(got) != shown(want) {
 			t.Fatalf("%+v with %+v: %s, want %s", x, c, shown(got), shown(want))
 		}
-		name := codeNames[got.Code]
+		name := shown(api.Answer{Code: got.Code, Why: got.Why})
 		if x.Op == api.Poll {
 			name = "Poll " + name
 		}
@@ -374,18 +417,25 @@ func play(t *testing.T, r *rand.Rand, c api.Config, labels []api.Label, keys int
 
 func TestAgainstTheModel(t *testing.T) {
 	r := rand.New(rand.NewSource(3))
-	labels := []api.Label{{}, {Level: 1}, {Comp: 1}, {Level: 1, Comp: 3}, {Level: 3, Comp: 7}}
+	apart := []api.Label{{}, {Level: 1}, {Comp: 1}, {Level: 1, Comp: 3}, {Level: 3, Comp: 7}}
+	chain := []api.Label{{}, {Level: 1}, {Level: 2}, {Level: 3}}
+	diamond := []api.Label{{}, {Comp: 1}, {Comp: 2}, {Comp: 3}}
 	counts := map[string]int{}
 	for range 60 {
 		c := api.Config{Keys: 1 + r.Intn(16), Live: 1 + r.Intn(4), Locks: 1 + r.Intn(32)}
-		play(t, r, c, labels, 16, counts)
+		play(t, r, c, apart, 16, counts)
 		c = api.Config{Keys: 1 + r.Intn(5), Live: 2 + r.Intn(3), Locks: 4 + r.Intn(29)}
-		play(t, r, c, labels[:1], 5, counts)
-		play(t, r, c, labels[:2], 8, counts)
+		play(t, r, c, chain[:1], 5, counts)
+		play(t, r, c, chain[:2], 8, counts)
+		c = api.Config{Keys: 1 + r.Intn(5), Live: 3 + r.Intn(2), Locks: 8 + r.Intn(25)}
+		play(t, r, c, chain, 4, counts)
+		play(t, r, c, diamond, 4, counts)
 	}
-	for _, name := range []string{"Done", "Blocked", "Aborted", "Denied", "Quota", "NoTxn", "Live", "Busy", "Bad", "Poll Done", "Poll Blocked", "Poll Aborted", "Poll Quota", "Poll Idle"} {
+	for _, name := range []string{"Done", "Blocked", "Denied", "Quota", "NoTxn", "Live", "Busy", "Bad", "Aborted why1", "Aborted why2",
+		"Poll Done", "Poll Blocked", "Poll Quota", "Poll Idle", "Poll Aborted why1", "Poll Aborted why2",
+		"down Blocked", "down later", "preempted later", "preempted while it waits"} {
 		if counts[name] < 100 {
-			t.Errorf("only %d answers were %s: %v", counts[name], name, counts)
+			t.Errorf("only %d times %s: %v", counts[name], name, counts)
 		}
 	}
 }

@@ -15,16 +15,19 @@ func (s *Store) ask(x api.Step) api.Answer {
 	me := &own.sessions[x.Who.Num]
 	r := lock.Asked(x)
 	if me.covers(r) {
+		// A lock to write has no lock of a higher label meeting it from its own grant on, so there is nobody to preempt.
 		return s.grant(x)
 	}
 	if own.locks() >= s.config.Locks {
 		return api.Answer{Code: api.Quota}
 	}
 	own.join(x)
-	if own.isHindered(x.Who.Num) {
+	if s.isHindered(x.Who) {
 		return s.breakRings(x.Who)
 	}
-	return s.admit(x.Who)
+	a := s.admit(x.Who)
+	s.settle()
+	return a
 }
 
 // grant does the operation of a request that is granted (P10).

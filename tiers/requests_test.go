@@ -30,6 +30,12 @@ func TestP8Denied(t *testing.T) {
 		S Get 1/3 3: Denied
 		S Put 0/2 3 3: Denied
 		S Put 0/7 3 3: Denied
+		Q Begin: Done
+		Q Get 0/2 3: Done
+		Q Get 0/1 3: Denied
+		Q Scan 0/3 0 15: Denied
+		Q Put 0/0 3 3: Denied
+		Q Commit: Done
 		S Commit: Done
 		H Commit: Done
 		A Commit: Done

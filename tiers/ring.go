@@ -52,8 +52,8 @@ func (s *Store) breakRings(w api.Who) api.Answer {
 		if !found {
 			break
 		}
-		s.finish(api.Who{Label: w.Label, Num: youngest})
-		own.sessions[youngest].ended = api.Deadlock
+		own.force(youngest, api.Deadlock)
+		s.settle()
 	}
 	me := &own.sessions[w.Num]
 	if me.ended != 0 {

@@ -2,10 +2,12 @@ package tiers
 
 import (
 	"fmt"
+	"reflect"
 	"strings"
 	"testing"
 
 	"tiers/api"
+	"tiers/label"
 )
 
 const (
@@ -20,8 +22,16 @@ var cast = map[string]api.Who{
 	"A": {}, "B": {Num: 1}, "C": {Num: 2}, "D": {Num: 3},
 	"H": {Label: api.Label{Level: 1}},
 	"I": {Label: api.Label{Level: 1}, Num: 3},
+	"J": {Label: api.Label{Level: 1}, Num: 1},
+	"L": {Label: api.Label{Level: 2}},
+	"M": {Label: api.Label{Level: 2}, Num: 1},
+	"P": {Label: api.Label{Comp: 1}},
+	"O": {Label: api.Label{Comp: 1}, Num: 2},
+	"Q": {Label: api.Label{Comp: 2}},
+	"R": {Label: api.Label{Comp: 2}, Num: 3},
 	"S": {Label: api.Label{Comp: 3}},
 	"T": {Label: api.Label{Level: 3, Comp: 7}, Num: 3},
+	"U": {Label: api.Label{Level: 3, Comp: 7}},
 }
 
 var opNames = []string{"", "Begin", "Get", "Scan", "Put", "Del", "Commit", "Abort", "Poll"}
@@ -88,9 +98,42 @@ func made(t *testing.T, c api.Config) *Store {
 }
 
 // run does the lines of a script, each a step or "Look" with a label, then ":" and the answer.
+// In a store that is new it is a test of P14 too: who stands below some label must be answered the same if those do nothing who do not.
 func run(t *testing.T, s *Store, script string) {
 	t.Helper()
-	for _, line := range strings.Split(script, "\n") {
+	isNew := reflect.DeepEqual(*s, Store{config: s.config})
+	lines := strings.Split(script, "\n")
+	runLines(t, s, lines)
+	if !isNew {
+		return
+	}
+	for _, w := range cast {
+		runLines(t, made(t, s.config), below(w.Label, lines))
+	}
+}
+
+// below has those of the lines that are about labels which l dominates.
+func below(l api.Label, lines []string) []string {
+	var rest []string
+	for _, line := range lines {
+		f := strings.Fields(line)
+		if len(f) < 2 {
+			continue
+		}
+		about := cast[f[0]].Label
+		if f[0] == "Look" {
+			fmt.Sscanf(f[1], "%d/%d", &about.Level, &about.Comp)
+		}
+		if label.Dominates(l, about) {
+			rest = append(rest, line)
+		}
+	}
+	return rest
+}
+
+func runLines(t *testing.T, s *Store, lines []string) {
+	t.Helper()
+	for _, line := range lines {
 		ask, want, ok := strings.Cut(strings.TrimSpace(line), ": ")
 		if !ok {
 			if ask != "" {
@@ -107,7 +150,7 @@ func run(t *testing.T, s *Store, script string) {
 			got = shown(s.Do(parsed(ask)))
 		}
 		if got != want {
-			t.Fatalf("%s: %s, want %s; in:\n%s", ask, got, want, script)
+			t.Fatalf("%s: %s, want %s; in:\n%s", ask, got, want, strings.Join(lines, "\n"))
 		}
 	}
 }

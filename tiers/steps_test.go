@@ -188,11 +188,45 @@ func TestP6AnEndByForceIsTold(t *testing.T) {
 	}
 }
 
-// No transaction is preempted yet (P11): this test sets that itself.
-func TestP6WhyIsTold(t *testing.T) {
-	s := made(t, wide)
-	s.tiers[0].sessions[1].ended = api.Preempted
-	run(t, s, "B Commit: Aborted why1\nB Commit: NoTxn")
+// preempted is a store for two live transactions of a label where that of H was preempted, of which H has not been told.
+func preempted(t *testing.T) *Store {
+	s := made(t, api.Config{Keys: 16, Live: 2, Locks: 32})
+	run(t, s, `
+		H Begin: Done
+		H Put 1/0 9 9: Done
+		H Get 0/0 3: Done
+		A Begin: Done
+		A Put 0/0 3 1: Done`)
+	return s
+}
+
+func TestP6PreemptedIsTold(t *testing.T) {
+	steps := []string{"H Begin", "H Get 0/0 3", "H Scan 1/0 3 9", "H Put 1/0 3 7", "H Put 0/0 3 7", "H Del 1/0 3", "H Commit", "H Abort", "H Poll"}
+	for _, step := range steps {
+		run(t, preempted(t), "A Get 0/0 3: Done 3:1\n"+step+": Aborted why1\n"+`
+			H Poll: Idle
+			H Commit: NoTxn
+			H Abort: NoTxn
+			H Get 1/0 9: NoTxn
+			I Begin: Done
+			J Begin: Done
+			H Begin: Quota
+			J Commit: Done
+			H Begin: Done
+			H Get 1/0 9: Done
+			H Commit: Done
+			A Commit: Done
+			Look 1/0: OK
+			Look 0/0: OK 3:1`)
+	}
+}
+
+func TestP6BadDoesNotTell(t *testing.T) {
+	run(t, preempted(t), `
+		H Get 0/0 16: Bad
+		H Get 4/0 3: Bad
+		H Poll: Aborted why1
+		H Poll: Idle`)
 }
 
 func TestP6EachSessionIsToldOfItsOwn(t *testing.T) {

@@ -44,6 +44,12 @@ func (t *tier) end(num int) {
 	t.sessions[num] = session{}
 }
 
+// force ends a transaction by force, of which its session is still to be told.
+func (t *tier) force(num, why int) {
+	t.end(num)
+	t.sessions[num].ended = why
+}
+
 // locks counts the label's locks and requests that wait.
 func (t *tier) locks() int {
 	n := len(t.queue)

@@ -19,18 +19,34 @@ func (t *tier) leave(num int) api.Step {
 	return x
 }
 
-// isHindered tells if another transaction of the label hinders the request of the session num, which is in the queue.
-// As the steps between labels are still to come, no other label's transaction is held to hinder it.
-func (t *tier) isHindered(num int) bool {
-	for other := range t.sessions {
-		if t.hinders(other, num) {
+// isHindered tells if the request of w, which is in the queue, is hindered (P9).
+func (s *Store) isHindered(w api.Who) bool {
+	own := s.tier(w.Label)
+	x := own.sessions[w.Num].request
+	if x.At != w.Label {
+		lower := s.tier(x.At)
+		return lower.meets(lock.Asked(x))
+	}
+	for other := range own.sessions {
+		if own.hinders(other, w.Num) {
 			return true
 		}
 	}
 	return false
 }
 
-// hinders tells if the transaction of the session other hinders the request of the session num, which is in the queue (P9).
+// meets tells if a transaction of the label holds a lock that meets the request r.
+func (t *tier) meets(r lock.Lock) bool {
+	for num := range t.sessions {
+		if t.sessions[num].meets(r) {
+			return true
+		}
+	}
+	return false
+}
+
+// hinders tells if the transaction of the session other hinders the request of the session num, which is in the queue.
+// A request on another partition it never hinders: there the label's locks and requests are all to read, so none meets another.
 func (t *tier) hinders(other, num int) bool {
 	if other == num {
 		return false
@@ -57,35 +73,4 @@ func (t *tier) isAhead(other, num int) bool {
 		}
 	}
 	return false
-}
-
-// admit grants the request of a session that is in the queue: it becomes a lock, and its operation is done.
-func (s *Store) admit(w api.Who) api.Answer {
-	own := s.tier(w.Label)
-	x := own.leave(w.Num)
-	me := &own.sessions[w.Num]
-	me.locks = append(me.locks, lock.Asked(x))
-	return s.grant(x)
-}
-
-// settle grants the requests of the label l that wait and are no longer hindered (P13).
-// One round is enough: what is granted can hinder only requests that came later, and these are looked at later.
-func (s *Store) settle(l api.Label) {
-	own := s.tier(l)
-	waiting := own.queue
-	for _, num := range waiting {
-		if own.isHindered(num) {
-			continue
-		}
-		a := s.admit(api.Who{Label: l, Num: num})
-		own.sessions[num].outcome = a
-		own.sessions[num].came = true
-	}
-}
-
-// finish ends a session's transaction, and grants what waited for that.
-func (s *Store) finish(w api.Who) {
-	own := s.tier(w.Label)
-	own.end(w.Num)
-	s.settle(w.Label)
 }
